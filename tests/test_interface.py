@@ -38,10 +38,32 @@ METHODS = {
         "__eq__": None, "__str__": None,
     },
 }
+FUNCTIONS = {
+    "running": {"run": "(tool, width, program)", "runs": "(tool, width, program, most)"},
+    "forms": {"form_of": "(piece, width)", "lay": "(tool, before, form)"},
+    "deciding": {
+        "happens": "(tool, goal)", "example": "(tool, goal)", "goals": "(tool)", "comes": "(tool, at)",
+        "reach": "(tool)",
+    },
+    "papers": {"paper": "(tool, goal)", "paper_holds": "(tool, goal, value)"},
+}
+# The modules in the order of the document, in which each needs only earlier ones; `kinds` needs none.
+MODULES = ("kinds", "errors", "pieces", "programs", "tools", "running", "forms", "deciding", "papers")
 
 
 def module(name):
     return importlib.import_module(f"laytwice.{name}")
+
+
+def defined_in(path):
+    """The functions, classes and values that a file defines."""
+    found = set()
+    for one in ast.parse(path.read_text()).body:
+        if isinstance(one, (ast.FunctionDef, ast.ClassDef)):
+            found.add(one.name)
+        if isinstance(one, ast.Assign):
+            found.update(target.id for target in one.targets)
+    return found
 
 
 class InterfaceTest(unittest.TestCase):
@@ -52,6 +74,15 @@ class InterfaceTest(unittest.TestCase):
                 self.assertEqual(found.__module__, f"laytwice.{name}")
                 if signature is not None:
                     self.assertEqual(str(inspect.signature(found)), signature, word)
+
+    def test_functions(self):
+        for name, functions in FUNCTIONS.items():
+            for word, signature in functions.items():
+                found = getattr(module(name), word)
+                self.assertTrue(inspect.isfunction(found))
+                self.assertEqual(found.__module__, f"laytwice.{name}")
+                self.assertEqual(str(inspect.signature(found)), signature, word)
+        self.assertIsInstance(module("forms").FORMS, tuple)
 
     def test_methods_stand_in_the_class_itself(self):
         for (name, word), methods in METHODS.items():
@@ -90,12 +121,13 @@ class FilesTest(unittest.TestCase):
                 if isinstance(node, ast.FunctionDef):
                     self.assertLessEqual(node.end_lineno - node.lineno + 1, 40, node.name)
 
-    def test_imports_name_the_file_that_defines(self):
+    def test_imports_name_an_earlier_file_that_defines(self):
+        self.assertEqual(sorted(path.stem for path in self.files()), sorted(("__init__", *MODULES)))
         for path in self.files():
             for node in ast.walk(ast.parse(path.read_text())):
                 self.assertNotIsInstance(node, ast.Import)
                 if isinstance(node, ast.ImportFrom):
-                    self.assertTrue(node.module.startswith("laytwice."), node.module)
-                    source = ast.parse((PACKAGE / (node.module.split(".")[1] + ".py")).read_text())
-                    defined = {one.name for one in source.body if isinstance(one, (ast.FunctionDef, ast.ClassDef))}
-                    self.assertLessEqual({one.name for one in node.names}, defined)
+                    package, name = node.module.split(".")
+                    self.assertEqual(package, "laytwice")
+                    self.assertLess(MODULES.index(name), MODULES.index(path.stem))
+                    self.assertLessEqual({one.name for one in node.names}, defined_in(PACKAGE / f"{name}.py"))
