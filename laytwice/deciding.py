@@ -112,20 +112,28 @@ class Step:
         ]
 
 
-def steps_of(tool):
-    """The steps at all standings that come, those that come behind fewer pieces ahead of others."""
-    forms = form_lanes()
-    steps = [Step(tool, forms, BEGINNING, ())]
-    known = {BEGINNING: True}
+def steps_from(beginning, step_at):
+    """The steps at all standings that come, those that come behind fewer pieces ahead of others.
+
+    `step_at(standing, trail)` is the step at a standing to which the forms in `trail` lead.
+    """
+    steps = [step_at(beginning, ())]
+    known = {beginning: True}
     at = 0
     while at < len(steps):
         step = steps[at]
         for standing, number in step.leads():
             if standing not in known:
                 known[standing] = True
-                steps.append(Step(tool, forms, standing, (*step.trail, FORMS[number])))
+                steps.append(step_at(standing, (*step.trail, FORMS[number])))
         at += 1
     return steps
+
+
+def steps_of(tool):
+    """The steps of a first run and a second one, at all standings that come."""
+    forms = form_lanes()
+    return steps_from(BEGINNING, lambda standing, trail: Step(tool, forms, standing, trail))
 
 
 def is_met(steps, goal):

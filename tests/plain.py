@@ -359,3 +359,53 @@ def some_piece(chance):
 
 def some_program(chance, most=9):
     return Program([some_piece(chance) for _ in range(chance.randint(0, most))])
+
+
+# Comparing
+
+def same_in_either_order(p, q, width, program):
+    """Whether it does not matter for this program and width which tool runs first."""
+    return str(run(q, width, run(p, width, program))) == str(run(p, width, run(q, width, program)))
+
+
+def same_in_one_run(p, q, width, program):
+    """Whether both tools make the same of this program at this width."""
+    return str(run(p, width, program)) == str(run(q, width, program))
+
+
+def fewest_behind(beginning, forms, lead):
+    """How many pieces are needed until `lead(standing, form)`, which gives the next standing, gives None."""
+    depths = {beginning: 0}
+    waiting = [beginning]
+    for standing in waiting:
+        afters = {lead(standing, form) for form in forms}
+        if None in afters:
+            return depths[standing] + 1
+        for after in afters - set(depths):
+            depths[after] = depths[standing] + 1
+            waiting.append(after)
+    return None
+
+
+def ahead_of(form):
+    return form[1], form[4]
+
+
+def fewest_parting(p, q):
+    """How many pieces a program has that two machines do not make the same of; None if there is none."""
+    def lead(standing, form):
+        one, other = p.lay[standing[0], form], q.lay[standing[1], form]
+        return (ahead_of(one), ahead_of(other)) if one == other else None
+
+    found = fewest_behind(((), ()), p.forms, lead)
+    return found if found == 1 or p.tool.sorts == q.tool.sorts else 2
+
+
+def fewest_crossing(p, q):
+    """How many pieces a program has for which it matters which of two machines runs first; None if there is none."""
+    def lead(standing, form):
+        by_p, by_q = p.lay[standing[0], form], q.lay[standing[2], form]
+        one, other = q.lay[standing[1], by_p], p.lay[standing[3], by_q]
+        return (ahead_of(by_p), ahead_of(one), ahead_of(by_q), ahead_of(other)) if one == other else None
+
+    return fewest_behind(((),) * 4, p.forms, lead)

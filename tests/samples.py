@@ -1,8 +1,10 @@
 """Values that several tests use."""
 
+from laytwice.desk import Desk
 from laytwice.errors import InvalidGoal, NoRow
 from laytwice.pieces import Piece
 from laytwice.programs import Program
+from laytwice.sheet import Sheet
 from laytwice.tools import Row, Tool
 
 
@@ -51,5 +53,5 @@ def any_values():
         ["long"], ["break"], ("not marked", "left"), ["break", "long"], [0], (1, 2), deep(8),
         Piece("a", ["b"]), Program(), Program([Piece("a", ["b"])]), Row([], ["break"]), Tool(),
         Tool([Row(["long"], ["break"])], True), [Piece("a", ["b"])], [Row([], ["join"])], (Tool(), Program()),
-        NoRow(3), InvalidGoal(),
+        NoRow(3), InvalidGoal(), Sheet(Tool(), 40, Program()), Sheet(Tool(), 40, Program()).trial(), Desk(), [Desk()],
     ]

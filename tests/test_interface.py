@@ -26,6 +26,8 @@ CLASSES = {
     },
     "programs": {"Program": "(pieces=())"},
     "tools": {"Row": "(tests=(), deeds=())", "Tool": "(rows=(), sorts=False)"},
+    "sheet": {"Sheet": "(tool, width, program)"},
+    "desk": {"Desk": "()"},
 }
 METHODS = {
     ("pieces", "Piece"): {"but": "(self, **others)", "__eq__": None},
@@ -37,6 +39,11 @@ METHODS = {
         "without": "(self, at)", "read": "(text)", "__len__": None, "__getitem__": None, "__add__": None,
         "__eq__": None, "__str__": None,
     },
+    ("sheet", "Sheet"): {
+        "put": "(self, at, piece)", "take": "(self, at)", "change": "(self, at, piece)", "run": "(self)",
+        "use": "(self, tool)", "undo": "(self)", "trial": "(self)", "within": "(self, work)", "__len__": None,
+    },
+    ("desk", "Desk"): {"say": "(self, command)", "__len__": None},
 }
 FUNCTIONS = {
     "running": {"run": "(tool, width, program)", "runs": "(tool, width, program, most)"},
@@ -46,9 +53,14 @@ FUNCTIONS = {
         "reach": "(tool)",
     },
     "papers": {"paper": "(tool, goal)", "paper_holds": "(tool, goal, value)"},
+    "comparing": {"alike": "(p, q)", "parting": "(p, q)", "commute": "(p, q)", "crossing": "(p, q)"},
+    "mending": {"needless": "(tool, wanted)", "repairs": "(tool, wanted)", "idle": "(tool)"},
 }
-# The modules in the order of the document, in which each needs only earlier ones; `kinds` needs none.
-MODULES = ("kinds", "errors", "pieces", "programs", "tools", "running", "forms", "deciding", "papers")
+# The modules in the order of the document, in which each needs only earlier ones; `kinds` and `history` need none.
+MODULES = (
+    "kinds", "history", "errors", "pieces", "programs", "tools", "running", "forms", "deciding", "papers", "comparing",
+    "mending", "sheet", "desk",
+)
 
 
 def module(name):
@@ -92,6 +104,9 @@ class InterfaceTest(unittest.TestCase):
                 if signature is not None:
                     self.assertEqual(str(inspect.signature(getattr(found, method))), signature, method)
         self.assertIsInstance(vars(module("pieces").Piece)["bare"], property)
+        for word in ("program", "tool"):
+            self.assertIsInstance(vars(module("sheet").Sheet)[word], property)
+        self.assertIsNotNone(vars(module("sheet").Sheet)["tool"].fset)
         for name, word in (("programs", "Program"), ("tools", "Tool")):
             self.assertIsInstance(vars(getattr(module(name), word))["read"], classmethod)
 
